@@ -1,0 +1,1 @@
+"""Callsthrough: calls through an exchange of three stages."""

@@ -1,0 +1,17 @@
+import doctest
+import os
+import unittest
+
+README = os.path.join(os.path.dirname(os.path.abspath(__file__)), "..", "README.md")
+
+
+class ReadmeTest(unittest.TestCase):
+
+    def test_the_examples_give_what_they_show(self):
+        failed, tried = doctest.testfile(README, module_relative=False, encoding="utf-8")
+        self.assertEqual(failed, 0)
+        self.assertGreater(tried, 0)
+
+
+if __name__ == "__main__":
+    unittest.main()
