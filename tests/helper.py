@@ -4,6 +4,7 @@ from itertools import combinations, product
 
 from callsthrough.errors import BadShare, CallError
 from callsthrough.exchanges import Exchange
+from callsthrough.rules import Rule
 from callsthrough.shares import Share
 
 SIDES = [(1,), (2,), (1, 1), (2, 1), (1, 2), (2, 2), (3,), (3, 1), (1, 1, 1), (2, 1, 1)]
@@ -23,7 +24,7 @@ def no_integers():
         (), (1,), (1, 2), ("a", None), [], [1], [1, 2], {}, {1: 2}, {"top": (1,)},
         nested(lambda value: (value,)), nested(lambda value: [value]), nested(lambda value: {0: value}),
         Share(1), Share(1, 2), Exchange((1,), (1,), 1), CallError("x"), BadShare("top"), object(), Share, Exchange,
-        "first", "call", "end", ("call", (0, 0)), [("call", (0, 0))],
+        Rule(Exchange((1,), (1,), 1), "first"), Rule, "first", "call", "end", ("call", (0, 0)), [("call", (0, 0))],
     ]
 
 
@@ -119,6 +120,17 @@ def places_of(standing):
 
 def shape_of(standing):
     return tuple(sorted(standing))
+
+
+def some_table(exchange, turn=0):
+    """A table of a rule: of the free middles one that depends on the pair and the calls."""
+    table = {}
+    for shape in sorted({shape_of(standing) for standing in all_standings(exchange)}):
+        for pair in opens(exchange, shape):
+            free = frees(shape, pair)
+            if free:
+                table[(shape, pair)] = shape[free[(sum(pair) + len(pairs_of(shape)) + turn) % len(free)]]
+    return table
 
 
 def kinds(value):
