@@ -7,7 +7,7 @@ from callsthrough.errors import TooMany
 from callsthrough.exchanges import Exchange
 from callsthrough.judged import bars, closed, safe_fault
 from callsthrough.rules import Rule, played
-from callsthrough.standings import is_standing
+from callsthrough.standings import all_shapes, is_standing
 from tests.helper import (
     added, all_standings, caught, frees, kinds, odd_items, odd_values, opens, places_of, small_exchanges, some_table,
     taken,
@@ -150,6 +150,27 @@ class SearchTest(unittest.TestCase):
             self.assertEqual(found, sorted(set(found)))
             self.assertEqual(bars(rule), first_row_by_search(rule))
 
+    def test_just_2000_and_2001_standings(self):
+        # The rule "first" as a table, but for two entries each.
+        exchange = Exchange((3, 3, 2, 1), (3, 1), 4)
+        first = {}
+        for shape in all_shapes(exchange):
+            for pair in opens(exchange, shape):
+                if frees(shape, pair):
+                    first[(shape, pair)] = shape[frees(shape, pair)[0]]
+        let = dict(first)
+        let[(((), ((0, 0),), ((1, 0),), ((1, 0),)), (3, 1))] = ((1, 0),)
+        let[(((), (), ((1, 0),), ((3, 0),)), (1, 1))] = ((3, 0),)
+        over = dict(first)
+        over[(((), (), (), ((2, 0),)), (3, 1))] = ((2, 0),)
+        over[(((), ((2, 0),), ((2, 0),), ((3, 0),)), (1, 1))] = ((2, 0),)
+        rule = Rule(exchange, let)
+        self.assertEqual(len(closed(rule)), 2000)
+        self.assertIs(safe_fault(rule, closed(rule)) is None, bars(rule) is None)
+        self.assertEqual(len(standings_by_search(Rule(exchange, over))), 2001)
+        for work in (closed, bars):
+            self.assertEqual(caught(TooMany, lambda: work(Rule(exchange, over))).most, 2000)
+
     def test_great_exchanges(self):
         for exchange in [Exchange.square(4, 4, 7), Exchange.square(4, 4, 4), Exchange.square(3, 3, 1)]:
             for word in Rule.WORDS:
@@ -273,6 +294,7 @@ class SafeFaultTest(unittest.TestCase):
         lone = [none, (((0, 0),), ()), (((0, 1),), ()), (((1, 0),), ()), (((1, 1),), ())]
         self.assertEqual(safe_fault(full, [one] + lone), ("end", 0, (1, 1), 0))
         self.assertEqual(safe_fault(full, [both] + lone), ("end", 0, (0, 0), 1))
+        self.assertEqual(safe_fault(full, [one, none]), ("end", 0, (0, 0), 1))
         twice = (((0, 0),), ((0, 0),))
         wide = Rule(Exchange((2,), (2,), 2), "first")
         self.assertEqual(safe_fault(wide, [twice, none]), ("end", 0, (0, 0), 0))
