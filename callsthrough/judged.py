@@ -1,7 +1,7 @@
 """What a rule leads to, and whether it ever bars a call."""
 
-from callsthrough.errors import TooMany
 from callsthrough.places import free_for, open_pairs, placed, places, unplaced
+from callsthrough.reach import first_row, lengths_to, states_that_come
 from callsthrough.standings import empty, is_standing
 
 MOST_STANDINGS = 2000
@@ -16,89 +16,40 @@ def _standings_that_come(rule):
     """Return a dict with the list of the next standings for each standing that comes."""
     # A barred call takes no place, and its end does nothing. So it leads nowhere
     # that a row without it does not lead, too.
-    waiting = [empty(rule.exchange)]
-    known = {empty(rule.exchange): True}
-    after = {}
-    while waiting != []:
-        standing = waiting.pop()
-        nexts = _next_standings(rule, standing)
-        after[standing] = nexts
-        for later in nexts:
-            if later not in known:
-                known[later] = True
-                waiting.append(later)
-        if len(known) > MOST_STANDINGS:
-            raise TooMany(MOST_STANDINGS)
-    return after
+    return states_that_come(empty(rule.exchange), lambda standing: _next_standings(rule, standing), MOST_STANDINGS)
 
 
 def _next_standings(rule, standing):
+    found = [later for _, _, later in _calls_let(rule, standing)]
+    return found + [unplaced(standing, pair, k) for pair, k in places(standing)]
+
+
+def _calls_let(rule, standing):
+    """Return the list of the tuples (pair, place, next standing) of the calls that are let, ascending by pair."""
     found = []
     for pair in open_pairs(rule.exchange, standing):
         k = rule.pick(standing, pair)
         if k is not None:
-            found.append(placed(standing, pair, k))
-    return found + [unplaced(standing, pair, k) for pair, k in places(standing)]
+            found.append((pair, (pair, k), placed(standing, pair, k)))
+    return found
 
 
 def bars(rule):
     """Return the first of the shortest right rows whose last deed is a barred call, or None."""
     after = _standings_that_come(rule)
-    lengths = _lengths_to_bar(rule.exchange, after)
-    standing = empty(rule.exchange)
-    if standing not in lengths:
+    goals = [standing for standing in after if _barred_pairs(rule.exchange, standing) != []]
+    lengths = lengths_to(goals, after)
+    if empty(rule.exchange) not in lengths:
         return None
-    row = []
-    calls = []
-    while lengths[standing] > 1:
-        deed, k = _first_deed_nearer(rule, standing, calls, lengths)
-        row.append(deed)
-        if deed[0] == "call":
-            standing = placed(standing, deed[1], k)
-            calls.append((deed[1], k))
-        else:
-            pair, old = calls[deed[1]]
-            standing = unplaced(standing, pair, old)
-            calls[deed[1]] = None
+    row, standing = first_row(
+        empty(rule.exchange), lengths, lambda earlier: _calls_let(rule, earlier),
+        lambda earlier, place: unplaced(earlier, place[0], place[1]),
+    )
     return row + [("call", _barred_pairs(rule.exchange, standing)[0])]
 
 
 def _barred_pairs(exchange, standing):
     return [pair for pair in open_pairs(exchange, standing) if free_for(standing, pair) == []]
-
-
-def _lengths_to_bar(exchange, after):
-    """Return for each standing from which a barred call can be reached the least number of deeds to it."""
-    before = {standing: [] for standing in after}
-    for standing in after:
-        for later in after[standing]:
-            before[later].append(standing)
-    ring = [standing for standing in after if _barred_pairs(exchange, standing) != []]
-    lengths = {standing: 1 for standing in ring}
-    while ring != []:
-        wider = []
-        for standing in ring:
-            for earlier in before[standing]:
-                if earlier not in lengths:
-                    lengths[earlier] = lengths[standing] + 1
-                    wider.append(earlier)
-        ring = wider
-    return lengths
-
-
-def _first_deed_nearer(rule, standing, calls, lengths):
-    """Return the first deed that comes nearer to a barred call, and the middle of a call or None.
-
-    No call is barred in this standing, and some deed comes nearer.
-    """
-    wanted = lengths[standing] - 1
-    for pair in open_pairs(rule.exchange, standing):
-        k = rule.pick(standing, pair)
-        if lengths[placed(standing, pair, k)] == wanted:
-            return ("call", pair), k
-    ends = [n for n, place in enumerate(calls) if place is not None]
-    nearer = [n for n in ends if lengths[unplaced(standing, calls[n][0], calls[n][1])] == wanted]
-    return ("end", nearer[0]), None
 
 
 def safe_fault(rule, standings):

@@ -101,23 +101,33 @@ def shape(exchange, standing):
 
 def all_shapes(exchange):
     """Return the ascending list of all shapes."""
+    return shapes_up_to(exchange, MOST_SHAPES)
+
+
+def shapes_up_to(exchange, most):
+    """Return the ascending list of all shapes, or raise TooMany if there are more than `most`."""
     found = []
     busy_loads = loads_out_of(exchange.pairs(), [], [])[1:]
-    _add_lots((), doors_left(exchange, ()), busy_loads, exchange.middles, found)
+    _add_lots((), doors_left(exchange, ()), busy_loads, exchange.middles, found, most)
     # A load without calls comes before all others.
     return sorted([((),) * (exchange.middles - len(lot)) + lot for lot in found])
 
 
-def _add_lots(lot, doors, loads, left, found):
+def check_number_of_shapes(exchange):
+    """Raise TooMany if the exchange has more than 1000 shapes."""
+    shapes_up_to(exchange, MOST_SHAPES)
+
+
+def _add_lots(lot, doors, loads, left, found, most):
     """Add to `found` the lot of busy loads, and all that have up to `left` of the loads behind it."""
     found.append(lot)
-    if len(found) > MOST_SHAPES:
-        raise TooMany(MOST_SHAPES)
+    if len(found) > most:
+        raise TooMany(most)
     if left == 0:
         return
     for at, load in enumerate(loads):
         if _has_doors(doors, load):
-            _add_lots(lot + (load,), _less_doors(doors, load), loads[at:], left - 1, found)
+            _add_lots(lot + (load,), _less_doors(doors, load), loads[at:], left - 1, found, most)
 
 
 def _has_doors(doors, load):

@@ -1,6 +1,8 @@
 """What several tests need: values of every kind that callers may pass, and listings of small exchanges."""
 
-from itertools import combinations, product
+from functools import lru_cache
+from itertools import combinations, permutations, product
+from random import Random
 
 from callsthrough.errors import BadShare, CallError
 from callsthrough.exchanges import Exchange
@@ -122,6 +124,66 @@ def shape_of(standing):
     return tuple(sorted(standing))
 
 
+def shapes_of(exchange):
+    """The shapes by the test's own listing."""
+    return sorted({shape_of(standing) for standing in all_standings(exchange)})
+
+
+def nexts(shape, pair):
+    return sorted({shape_of(added(shape, pair, k)) for k in frees(shape, pair)})
+
+
+def ends(shape):
+    """The ends (pair, load) of a shape with the shapes behind them."""
+    return {(pair, load): shape_of(taken(shape, pair, k)) for k, load in enumerate(shape) for pair in load}
+
+
+def moves_from(exchange, shape):
+    """The calls of open pairs and the ends, as a foe may do them."""
+    return [("call", pair) for pair in opens(exchange, shape)] + [("end", *end) for end in sorted(ends(shape))]
+
+
+def stands_among(value, rights):
+    """Whether the value is one of the right ones, with the very kinds that these have."""
+    return any(kinds(value) == kinds(right) and value == right for right in rights)
+
+
+def shapes_up_to(exchange, most):
+    """The shapes by the test's own listing, or None if there are more than `most`."""
+    known, ring = {((),) * exchange.middles}, [((),) * exchange.middles]
+    while ring:
+        shape = ring.pop()
+        for pair in opens(exchange, shape):
+            for later in nexts(shape, pair):
+                if later not in known:
+                    known.add(later)
+                    ring.append(later)
+        if len(known) > most:
+            return None
+    return sorted(known)
+
+
+def foe_fault_by_words(exchange, shapes, ranks, moves):
+    """The faults of the papers of a foe, clause by clause; the shapes are all shapes, ascending."""
+    if not isinstance(ranks, dict) or not isinstance(moves, dict):
+        return ("form",)
+    if ((),) * exchange.middles not in ranks:
+        return ("empty",)
+    for shape in shapes:
+        if shape in ranks and (kinds(ranks[shape]) is not int or ranks[shape] < 0):
+            return ("rank", shape)
+    for shape in shapes:
+        if shape not in ranks:
+            continue
+        move = moves.get(shape)
+        if not stands_among(move, moves_from(exchange, shape)):
+            return ("move", shape)
+        for after in nexts(shape, move[1]) if move[0] == "call" else [ends(shape)[move[1:]]]:
+            if after not in ranks or ranks[after] >= ranks[shape]:
+                return ("step", shape, after)
+    return None
+
+
 def some_table(exchange, turn=0):
     """A table of a rule: of the free middles one that depends on the pair and the calls."""
     table = {}
@@ -140,6 +202,115 @@ def kinds(value):
     if isinstance(value, dict):
         return dict, [(kinds(key), kinds(item)) for key, item in value.items()]
     return value.__class__
+
+
+def rules_of_2000_and_2001():
+    """Two rules under which just so many standings come: "first" as a table, but for two entries each."""
+    exchange = Exchange((3, 3, 2, 1), (3, 1), 4)
+    first = {}
+    for shape in shapes_up_to(exchange, 1000):
+        for pair in opens(exchange, shape):
+            if frees(shape, pair):
+                first[(shape, pair)] = shape[frees(shape, pair)[0]]
+    let, over = dict(first), dict(first)
+    let[(((), ((0, 0),), ((1, 0),), ((1, 0),)), (3, 1))] = ((1, 0),)
+    let[(((), (), ((1, 0),), ((3, 0),)), (1, 1))] = ((3, 0),)
+    over[(((), (), (), ((2, 0),)), (3, 1))] = ((2, 0),)
+    over[(((), ((2, 0),), ((2, 0),), ((3, 0),)), (1, 1))] = ((2, 0),)
+    return Rule(exchange, let), Rule(exchange, over)
+
+
+# Exchanges with at most 100 shapes and middles enough for all calls within the doors.
+GAMES = [
+    Exchange(ins, outs, middles) for ins, outs, middles in [
+        ((1,), (1,), 1), ((2,), (2,), 2), ((2, 1), (2, 1), 2), ((2, 1), (2, 1), 3), ((2, 2), (2, 2), 2),
+        ((2, 2), (2, 2), 3), ((2, 2), (2, 1), 2), ((1, 2), (2, 2), 2), ((3, 2), (3, 1), 3), ((3, 1), (2, 3), 3),
+        ((3, 3), (1, 3), 3), ((3,), (3, 1), 3), ((3, 1), (3, 1), 4), ((2, 1, 1), (2, 1), 2), ((4, 2), (4, 1), 4),
+        ((3, 2), (2, 1), 3), ((1, 1, 1), (1, 1, 1), 1), ((3, 3), (3, 2), 3), ((2, 2, 1), (2, 2), 2),
+        ((4, 2), (2, 4), 4), ((4, 4), (4, 1), 4), ((4, 4), (3, 2), 4), ((3, 3, 1), (3, 1), 3),
+    ]
+]
+# The same, but with too few middles, or with more than 100 shapes.
+NO_ROOM = [Exchange((2,), (2,), 1), Exchange.square(4, 4, 3), Exchange.square(2, 3, 2), Exchange((1, 1, 1, 1), (4,), 3)]
+TOO_WIDE = [
+    Exchange((2, 2), (1, 1, 1, 1), 2), Exchange.square(4, 4, 7), Exchange.square(4, 1, 1), Exchange.square(3, 3, 3),
+]
+
+
+def price_by_words(shape, later):
+    """The least number of places given up, over all ways to name the middles of the later shape."""
+    return min(len(places_of(shape) - places_of(named)) for named in set(permutations(later)))
+
+
+def below(shape):
+    """The shapes that a shape becomes when calls end, also none or all."""
+    parts = [[part for many in range(len(load) + 1) for part in combinations(load, many)] for load in shape]
+    return {shape_of(loads) for loads in product(*parts)}
+
+
+def lets(exchange):
+    """For each shape and open pair a dict with the prices of the shapes that let the call."""
+    shapes = shapes_up_to(exchange, 1000)
+    found = {}
+    for shape in shapes:
+        for pair in opens(exchange, shape):
+            wanted = sorted(pairs_of(shape) + [pair])
+            laters = [later for later in shapes if pairs_of(later) == wanted]
+            found[(shape, pair)] = {later: price_by_words(shape, later) for later in laters}
+    return found
+
+
+def worths_by_words(exchange, most):
+    """A list with the dict V(n, ..) for each n from 0 to `most`."""
+    return _worths(exchange.ins, exchange.outs, exchange.middles, most)
+
+
+@lru_cache(maxsize=None)
+def _worths(ins, outs, middles, most):
+    exchange = Exchange(ins, outs, middles)
+    shapes, letting = shapes_up_to(exchange, 1000), lets(exchange)
+    under = {shape: below(shape) for shape in shapes}
+    rounds = [{shape: 0 for shape in shapes}]
+    for _ in range(most):
+        least = {}
+        for (shape, pair), prices in letting.items():
+            moves = min(price + rounds[-1][later] for later, price in prices.items())
+            least[shape] = max(moves, least.get(shape, 0))
+        rounds.append({shape: max(least.get(lower, 0) for lower in under[shape]) for shape in shapes})
+    return rounds
+
+
+def cycle_by_words(exchange, most=40):
+    """Numbers (n, c, d) with V(n + c, S) = V(n, S) + d for all S, by the first rounds."""
+    rounds = worths_by_words(exchange, most)
+    none = ((),) * exchange.middles
+    known = {}
+    for n, worths in enumerate(rounds):
+        key = tuple(worths[shape] - worths[none] for shape in sorted(worths))
+        if key in known:
+            return known[key], n - known[key], worths[none] - rounds[known[key]][none]
+        known[key] = n
+    raise AssertionError("no cycle in so few rounds")
+
+
+def some_row(exchange, many, turn=0, calls=0.6):
+    """A right row of so many deeds that depends on the turn; the greater `calls`, the more calls are up."""
+    chance = Random(f"{exchange.ins} {exchange.outs} {many} {turn}")
+    ins, outs, up, came, row = list(exchange.ins), list(exchange.outs), {}, 0, []
+    while len(row) < many:
+        pairs = [(i, o) for i, o in exchange.pairs() if ins[i] > 0 and outs[o] > 0]
+        if pairs and (not up or chance.random() < calls):
+            pair, step = chance.choice(pairs), -1
+            row.append(("call", pair))
+            up[came] = pair
+            came += 1
+        else:
+            n = chance.choice(sorted(up))
+            pair, step = up.pop(n), 1
+            row.append(("end", n))
+        ins[pair[0]] += step
+        outs[pair[1]] += step
+    return row
 
 
 def caught(error, work):

@@ -15,7 +15,7 @@ FOLDER = os.path.dirname(os.path.abspath(callsthrough.__file__))
 LIBRARY = {"math": {"gcd"}}
 BUILTINS = set("""
     len range enumerate zip min max sum abs sorted reversed int str bool list tuple dict set isinstance repr any all
-    super classmethod staticmethod property ValueError NotImplemented
+    super classmethod staticmethod property divmod ValueError NotImplemented
 """.split())
 METHODS = set("""
     append clear copy count endswith extend find get index insert isdigit items join keys partition pop remove replace

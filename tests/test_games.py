@@ -6,10 +6,12 @@ from callsthrough.errors import BadRule, TooMany
 from callsthrough.exchanges import Exchange
 from callsthrough.games import can_keep, foe, keeper, kept, least_for, least_middles
 from callsthrough.judged import bars
+from callsthrough.papers import foe_fault, keep_fault
 from callsthrough.rules import Rule
 from callsthrough.standings import all_shapes
 from tests.helper import (
-    added, all_standings, caught, frees, kinds, odd_values, opens, shape_of, small_exchanges, taken,
+    added, caught, ends, foe_fault_by_words, frees, kinds, nexts, odd_values, opens, shape_of, shapes_of,
+    small_exchanges, taken,
 )
 
 WORDS = ("first", "last", "fullest", "emptiest", "busy")
@@ -25,20 +27,6 @@ WIDE = [
 ]
 
 
-def shapes_of(exchange):
-    """The shapes by the test's own listing."""
-    return sorted({shape_of(standing) for standing in all_standings(exchange)})
-
-
-def nexts(shape, pair):
-    return sorted({shape_of(added(shape, pair, k)) for k in frees(shape, pair)})
-
-
-def ends(shape):
-    """The ends (pair, load) of a shape with the shapes behind them."""
-    return {(pair, load): shape_of(taken(shape, pair, k)) for k, load in enumerate(shape) for pair in load}
-
-
 def kept_by_taking_away(exchange, shapes):
     """Take away shapes until nothing changes."""
     lot = set(shapes)
@@ -51,33 +39,6 @@ def kept_by_taking_away(exchange, shapes):
         if not bad:
             return sorted(lot)
         lot -= bad
-
-
-def foe_fault_by_words(exchange, shapes, ranks, moves):
-    """The faults of the papers of a foe, clause by clause; the shapes are all shapes, ascending."""
-    if not isinstance(ranks, dict) or not isinstance(moves, dict):
-        return ("form",)
-    if ((),) * exchange.middles not in ranks:
-        return ("empty",)
-    for shape in shapes:
-        if shape in ranks and (kinds(ranks[shape]) is not int or ranks[shape] < 0):
-            return ("rank", shape)
-    for shape in shapes:
-        if shape not in ranks:
-            continue
-        move = moves.get(shape)
-        if not isinstance(move, tuple):
-            return ("move", shape)
-        if move[0] == "call" and len(move) == 2 and move[1] in opens(exchange, shape):
-            later = nexts(shape, move[1])
-        elif move[0] == "end" and len(move) == 3 and move[1:] in ends(shape):
-            later = [ends(shape)[move[1:]]]
-        else:
-            return ("move", shape)
-        for after in later:
-            if after not in ranks or ranks[after] >= ranks[shape]:
-                return ("step", shape, after)
-    return None
 
 
 class KeptTest(unittest.TestCase):
@@ -139,6 +100,7 @@ class KeeperTest(unittest.TestCase):
         self.assertIs(table.__class__, dict)
         rule = Rule(exchange, table)
         lot = kept(exchange)
+        self.assertIsNone(keep_fault(exchange, lot, table))
         for shape in lot:
             for pair in opens(exchange, shape):
                 k = rule(shape, pair)
@@ -188,6 +150,7 @@ class FoeTest(unittest.TestCase):
         self.assertLessEqual(set(ranks), set(shapes))
         self.assertEqual({str(kinds(shape)) for shape in ranks} - {str(kinds(shape)) for shape in shapes}, set())
         self.assertIsNone(foe_fault_by_words(exchange, shapes, ranks, moves))
+        self.assertIsNone(foe_fault(exchange, ranks, moves))
         for move in moves.values():
             self.assertIn(move[0], ("call", "end"))
 

@@ -7,10 +7,10 @@ from callsthrough.errors import TooMany
 from callsthrough.exchanges import Exchange
 from callsthrough.judged import bars, closed, safe_fault
 from callsthrough.rules import Rule, played
-from callsthrough.standings import all_shapes, is_standing
+from callsthrough.standings import is_standing
 from tests.helper import (
-    added, all_standings, caught, frees, kinds, odd_items, odd_values, opens, places_of, small_exchanges, some_table,
-    taken,
+    added, all_standings, caught, frees, kinds, odd_items, odd_values, opens, places_of, rules_of_2000_and_2001,
+    small_exchanges, some_table, taken,
 )
 from tests.test_standings import NO_STANDINGS
 from tests.test_standings import EXCHANGE as WIDE
@@ -151,25 +151,12 @@ class SearchTest(unittest.TestCase):
             self.assertEqual(bars(rule), first_row_by_search(rule))
 
     def test_just_2000_and_2001_standings(self):
-        # The rule "first" as a table, but for two entries each.
-        exchange = Exchange((3, 3, 2, 1), (3, 1), 4)
-        first = {}
-        for shape in all_shapes(exchange):
-            for pair in opens(exchange, shape):
-                if frees(shape, pair):
-                    first[(shape, pair)] = shape[frees(shape, pair)[0]]
-        let = dict(first)
-        let[(((), ((0, 0),), ((1, 0),), ((1, 0),)), (3, 1))] = ((1, 0),)
-        let[(((), (), ((1, 0),), ((3, 0),)), (1, 1))] = ((3, 0),)
-        over = dict(first)
-        over[(((), (), (), ((2, 0),)), (3, 1))] = ((2, 0),)
-        over[(((), ((2, 0),), ((2, 0),), ((3, 0),)), (1, 1))] = ((2, 0),)
-        rule = Rule(exchange, let)
+        rule, over = rules_of_2000_and_2001()
         self.assertEqual(len(closed(rule)), 2000)
         self.assertIs(safe_fault(rule, closed(rule)) is None, bars(rule) is None)
-        self.assertEqual(len(standings_by_search(Rule(exchange, over))), 2001)
+        self.assertEqual(len(standings_by_search(over)), 2001)
         for work in (closed, bars):
-            self.assertEqual(caught(TooMany, lambda: work(Rule(exchange, over))).most, 2000)
+            self.assertEqual(caught(TooMany, lambda: work(over)).most, 2000)
 
     def test_great_exchanges(self):
         for exchange in [Exchange.square(4, 4, 7), Exchange.square(4, 4, 4), Exchange.square(3, 3, 1)]:
