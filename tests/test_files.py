@@ -19,7 +19,7 @@ BUILTINS = set("""
 """.split())
 METHODS = set("""
     append clear copy count endswith extend find get index insert isdigit items join keys partition pop remove replace
-    reverse rfind rpartition setdefault split startswith strip update values add discard
+    reverse rfind rpartition setdefault split startswith strip update values add discard isascii
 """.split())
 NO_NAMES = set("""
     register mro elements open input law version_info with_traceback add_note attrgetter breakpoint builtins compile
@@ -197,6 +197,45 @@ class LanguageTest(unittest.TestCase):
             if isinstance(node.value, ast.Call):
                 called = ast.unparse(node.value.func).rpartition(".")[2]
                 self.assertNotIn(called, "zip enumerate range reversed items values".split(), (name, node.lineno))
+
+    def test_generators(self):
+        # A generator's name has no other meaning, and the package itself does not call it.
+        functions = [(name, node) for name, node in nodes(ast.FunctionDef)]
+        yielding = {
+            node.name for _, node in functions
+            if [part for part in ast.walk(node) if isinstance(part, (ast.Yield, ast.YieldFrom))]
+        }
+        self.assertEqual(yielding, {"watch"})
+        self.assertEqual(len([node for _, node in functions if node.name in yielding]), 1)
+        for name, node in nodes(ast.Attribute, ast.Name):
+            word = node.attr if isinstance(node, ast.Attribute) else node.id
+            self.assertNotIn(word, yielding, (name, node.lineno))
+        for name, node in nodes(ast.Yield):
+            self.assertIn(node, [part.value for _, part in nodes(ast.Expr)], (name, node.lineno))
+
+    def test_stars_stand_before_names(self):
+        for name, node in nodes(ast.Starred):
+            self.assertIsInstance(node.value, (ast.Name, ast.Attribute), (name, node.lineno))
+
+    def test_properties_are_not_called_and_not_assigned(self):
+        read = {
+            node.name for _, node in nodes(ast.FunctionDef)
+            if [mark for mark in node.decorator_list if ast.unparse(mark) == "property"]
+        }
+        self.assertEqual(read, {"let", "barred", "moved", "rule"})
+        for name, node in nodes(ast.Call):
+            if isinstance(node.func, ast.Attribute):
+                self.assertNotIn(node.func.attr, read, (name, node.lineno))
+        for name, node in nodes(ast.Attribute):
+            if isinstance(node.ctx, ast.Store):
+                self.assertNotIn(node.attr, read, (name, node.lineno))
+
+    def test_lambdas_on_one_line_have_other_parameters(self):
+        seen = {}
+        for name, node in nodes(ast.Lambda):
+            words = tuple(part.arg for part in node.args.args)
+            self.assertNotIn((name, node.lineno, words), seen)
+            seen[(name, node.lineno, words)] = True
 
     def test_errors_are_made_where_they_are_raised(self):
         for name, node in nodes(ast.Raise):
